@@ -1,0 +1,1 @@
+"""Questions to a file of notched cards."""
