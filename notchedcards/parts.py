@@ -4,6 +4,8 @@ A part is made of smaller ones with its truth and its one text at once: so no tr
 walked, however many parts are joined one behind another.
 """
 
+from notchedcards.cardfile import count_notchings
+
 
 # The joint ("and", "or", or empty) is kept since brackets hang on it alone.
 class Part:
@@ -11,10 +13,6 @@ class Part:
         self.truth = truth
         self.spoken = spoken
         self.joint = joint
-
-
-def count_notchings(marks):
-    return 1 << len(marks)
 
 
 def all_part(marks):

@@ -16,9 +16,39 @@ class NotInRange(Refusal):
         Refusal.__init__(self, -3)
 
 
+class NotQuestions(Refusal):
+    def __init__(self):
+        Refusal.__init__(self, -4)
+
+
 class NoQuestion(Refusal):
     def __init__(self):
         Refusal.__init__(self, -5)
+
+
+class NoNotching(Refusal):
+    def __init__(self):
+        Refusal.__init__(self, -5)
+
+
+class NoCube(Refusal):
+    def __init__(self):
+        Refusal.__init__(self, -5)
+
+
+class NotPlan(Refusal):
+    def __init__(self):
+        Refusal.__init__(self, -6)
+
+
+class NotLabels(Refusal):
+    def __init__(self):
+        Refusal.__init__(self, -6)
+
+
+class NoCards(Refusal):
+    def __init__(self):
+        Refusal.__init__(self, -7)
 
 
 # The place is kept by itself, since look answers it and is not refused.
